@@ -1,0 +1,1 @@
+"""Webs of weighted ties, cut so that told places come apart."""
