@@ -11,6 +11,11 @@ def are_numbers(things):
     return all([is_number(thing) for thing in things])
 
 
+def is_list(thing):
+    """Whether a thing may stand where a list is named: a tuple may as well."""
+    return isinstance(thing, (list, tuple))
+
+
 def is_tuple_of(thing, many):
     """Whether a thing is a tuple of so many parts."""
     return isinstance(thing, tuple) and len(thing) == many

@@ -1,6 +1,6 @@
 """Webs, cuts of their ties, and the pieces that hang together."""
 
-from partedweb.kinds import are_numbers, is_number, is_tuple_of, rises
+from partedweb.kinds import are_numbers, is_list, is_number, is_tuple_of, rises
 
 
 def is_web(thing):
@@ -19,6 +19,15 @@ def is_tie(thing, many):
         return False
     a, b, weight = thing
     return 0 <= a < b < many and weight >= 1
+
+
+def is_cut(web, thing):
+    """Whether a thing is a rising list of unlike pairs of the web's ties."""
+    # True equals 1, so the kinds are asked ahead of the look into the web's pairs.
+    if not is_list(thing) or not all([is_tuple_of(pair, 2) and are_numbers(pair) for pair in thing]):
+        return False
+    weights = tie_weights(web)
+    return all([pair in weights for pair in thing]) and rises(thing)
 
 
 def tie_weights(web):

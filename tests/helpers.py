@@ -84,6 +84,29 @@ def least_sides(web, sources, sinks):
     return least, [side for side in sides if rim_weight(web, side) == least]
 
 
+def is_flow_by_words(web, sources, sinks, told):
+    """Whether told is what shows_flow is to take."""
+    if told.__class__ is not tuple or len(told) != 3 or told[0].__class__ is not int:
+        return False
+    value, amounts, side = told
+    for row in (amounts, side):
+        if row.__class__ not in (list, tuple) or [part for part in row if part.__class__ is not int]:
+            return False
+    if list(side) != sorted(set(side)) or not set(sources) <= set(side) <= set(range(web[0])) - set(sinks):
+        return False
+    if len(amounts) != len(web[1]):
+        return False
+    more = {place: 0 for place in range(web[0])}
+    for (a, b, weight), amount in zip(web[1], amounts):
+        if not -weight <= amount <= weight:
+            return False
+        more[a] += amount
+        more[b] -= amount
+    if [place for place in more if more[place] and place not in sources and place not in sinks]:
+        return False
+    return value == sum(more[place] for place in sources) == rim_weight(web, side)
+
+
 def nested(depth, make):
     thing = 0
     for _ in range(depth):
