@@ -1,7 +1,9 @@
 """What the tests share: made webs, slow ways by the document's words alone, and odd things."""
 
 from copy import deepcopy
+from fractions import Fraction
 from itertools import product
+from math import gcd
 
 
 class Dice:
@@ -107,6 +109,64 @@ def is_flow_by_words(web, sources, sinks, told):
     return value == sum(more[place] for place in sources) == rim_weight(web, side)
 
 
+def is_cut_by_words(web, thing):
+    """Whether a thing is a rising list of unlike pairs of ties, kinds counting."""
+    if thing.__class__ not in (list, tuple):
+        return False
+    for pair in thing:
+        if pair.__class__ is not tuple or [part.__class__ for part in pair] != [int, int]:
+            return False
+    return list(thing) == sorted(set(thing) & {tie[:2] for tie in web[1]})
+
+
+def is_fraction_by_words(thing):
+    if thing.__class__ is not tuple or [part.__class__ for part in thing] != [int, int]:
+        return False
+    return thing[1] >= 1 and gcd(*thing) == 1
+
+
+def told_fraction(number):
+    """A number as a fraction is told."""
+    return (Fraction(number).numerator, Fraction(number).denominator)
+
+
+def some_shares(dice, web, posts, most):
+    """Shares of fractions whose numbers are at most so great."""
+    shares = []
+    for place in range(web[0]):
+        below = 1 + dice.below(most)
+        marks = sorted(dice.below(below + 1) for _ in posts[1:])
+        tops = [high - low for low, high in zip([0] + marks, marks + [below])]
+        if place in posts:
+            below, tops = 1, [int(post == place) for post in posts]
+        shares.append([told_fraction(Fraction(top, below)) for top in tops])
+    return shares
+
+
+def cost_by_words(web, shares):
+    cost = Fraction(0)
+    for a, b, weight in web[1]:
+        for here, there in zip(shares[a], shares[b]):
+            cost += weight * abs(Fraction(*here) - Fraction(*there)) / 2
+    return cost
+
+
+def is_shares_by_words(web, posts, thing):
+    """Whether a thing is what is_shares is to take."""
+    if thing.__class__ not in (list, tuple) or len(thing) != web[0]:
+        return False
+    for place, row in enumerate(thing):
+        if row.__class__ not in (list, tuple) or len(row) != len(posts):
+            return False
+        if not all(is_fraction_by_words(share) and share[0] >= 0 for share in row):
+            return False
+        if sum(Fraction(*share) for share in row) != 1:
+            return False
+        if place in posts and row[posts.index(place)] != (1, 1):
+            return False
+    return True
+
+
 def nested(depth, make):
     thing = 0
     for _ in range(depth):
@@ -140,6 +200,8 @@ def bent_row(row):
     make, other = (list, tuple) if isinstance(row, list) else (tuple, list)
     yield other(row)
     yield make(reversed(row))
+    if make is tuple and [part.__class__ for part in row] == [int, int]:
+        yield from [(2 * row[0], 2 * row[1]), (-row[0], -row[1]), (row[0], -row[1]), (row[0], 0), (0, 2), (2, 2)]
     for at in range(len(row)):
         yield make(row[:at] + row[at + 1:])
         yield make(row[:at] + row[at:at + 1] + row[at:])

@@ -8,7 +8,8 @@ from partedweb.partings import is_parting, pruned
 from partedweb.singles import by_singles, shows_by_singles, singles
 from partedweb.webs import weight_of
 from tests.helpers import (
-    asked_fairly, bent, exchanged, great_web, is_flow_by_words, least_sides, least_weight, odd_things, parts, small_webs,
+    asked_fairly, bent, exchanged, great_web, is_cut_by_words, is_flow_by_words, least_sides, least_weight, odd_things,
+    parts, small_webs,
 )
 
 STAR = (4, ((0, 3, 5), (1, 3, 5), (2, 3, 5)))
@@ -25,14 +26,11 @@ def is_so_by_words(web, posts, told):
     if told.__class__ is not tuple or len(told) != 3 or told[0].__class__ is not int:
         return False
     weight, cut, papers = told
-    if cut.__class__ not in (list, tuple) or papers.__class__ not in (list, tuple) or len(papers) != len(posts):
+    if papers.__class__ not in (list, tuple) or len(papers) != len(posts):
         return False
-    for pair in cut:
-        if pair.__class__ is not tuple or [part.__class__ for part in pair] != [int, int]:
-            return False
+    if not is_cut_by_words(web, cut) or not parts(web, posts, cut):
+        return False
     ties = {(a, b): heavy for a, b, heavy in web[1]}
-    if list(cut) != sorted(set(cut) & set(ties)) or not parts(web, posts, cut):
-        return False
     if not all(is_flow_by_words(web, [post], rest_of(posts, post), paper) for post, paper in zip(posts, papers)):
         return False
     values = sum(paper[0] for paper in papers)
