@@ -1,6 +1,7 @@
 """The least shares, and the pulls that show them least: found together, by raising the floor that the pulls put."""
 
 from partedweb.kinds import fraction, over_one
+from partedweb.partings import places_beside
 from partedweb.shares import even_shares
 
 
@@ -28,11 +29,6 @@ def pulls_on(board, web, posts):
     many = len(web[1])
     tops = board.all_tops()
     return [[fraction(tops[at * many + tie], 2 * board.below) for tie in range(many)] for at in range(len(posts))]
-
-
-def places_beside(web, posts):
-    """All places that are no posts."""
-    return [place for place in range(web[0]) if place not in posts]
 
 
 def first_board(web, posts):

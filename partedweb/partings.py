@@ -1,5 +1,6 @@
 """Partings: cuts behind which no two posts hang together, and rows of owners."""
 
+from partedweb.kinds import are_numbers
 from partedweb.webs import heads_of, tie_weights, without
 
 
@@ -7,6 +8,13 @@ def is_parting(web, posts, cut):
     """Whether no two posts hang together without the ties of the cut."""
     heads = heads_of(without(web, cut))
     return len({heads[post] for post in posts}) == len(posts)
+
+
+def is_row_of_owners(web, posts, thing):
+    """Whether a thing is a tuple with a post for each place, for each post itself."""
+    if not isinstance(thing, tuple) or len(thing) != web[0] or not are_numbers(thing):
+        return False
+    return all([owner in posts for owner in thing]) and all([thing[post] == post for post in posts])
 
 
 def cut_by(web, owners):
@@ -30,3 +38,23 @@ def pruned(web, posts, cut):
         if is_parting(web, posts, fewer):
             staying = fewer
     return staying
+
+
+def places_beside(web, posts):
+    """All places that are no posts."""
+    return [place for place in range(web[0]) if place not in posts]
+
+
+def posts_alone(web, posts):
+    """The row of owners so far in which each post owns itself, and None what isn't given yet."""
+    return tuple([place if place in posts else None for place in range(web[0])])
+
+
+def given(owners, place, post):
+    """The row of owners so far with a place given to a post."""
+    return owners[:place] + (post,) + owners[place + 1:]
+
+
+def parted_from(ties, owners, post):
+    """What those of a place's ties (far, weight) weigh that part it from other posts' places, if this post owns it."""
+    return sum([weight for far, weight in ties if owners[far] is not None and owners[far] != post])

@@ -48,15 +48,21 @@ def without(web, cut):
     return (many, tuple([tie for tie in ties if tie[:2] not in gone]))
 
 
-def heads_of(web):
-    """For each place the first one of those with which it hangs together."""
+def beside_each(web):
+    """For each place the tuples (far, weight) of its ties: the other end, and what it weighs."""
     many, ties = web
     beside = [[] for place in range(many)]
     for a, b, weight in ties:
-        beside[a].append(b)
-        beside[b].append(a)
-    heads = [None] * many
-    for place in range(many):
+        beside[a].append((b, weight))
+        beside[b].append((a, weight))
+    return beside
+
+
+def heads_of(web):
+    """For each place the first one of those with which it hangs together."""
+    beside = beside_each(web)
+    heads = [None] * web[0]
+    for place in range(web[0]):
         if heads[place] is None:
             spread(beside, heads, place)
     return heads
@@ -68,7 +74,7 @@ def spread(beside, heads, head):
     waiting = [head]
     while waiting:
         place = waiting.pop()
-        for far in beside[place]:
+        for far, weight in beside[place]:
             if heads[far] is None:
                 heads[far] = head
                 waiting.append(far)

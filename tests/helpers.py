@@ -26,6 +26,12 @@ class Dice:
         chosen = sorted(self.some(pairs, min(ties, len(pairs))))
         return (many, tuple((a, b, 1 + self.below(heaviest)) for a, b in chosen))
 
+    def tree(self, many, heaviest):
+        """A web that is a tree, its places numbered anyhow."""
+        names = self.some(range(many), many)
+        pairs = [sorted((names[place], names[self.below(place)])) for place in range(1, many)]
+        return (many, tuple((a, b, 1 + self.below(heaviest)) for a, b in sorted(pairs)))
+
     def posts(self, many, posts):
         return sorted(self.some(range(many), posts))
 
@@ -69,11 +75,17 @@ def rim_weight(web, side):
     return sum(weight for a, b, weight in web[1] if (a in side) != (b in side))
 
 
+def rows_by_weight(web, posts):
+    """All rows of owners, gone through, by what their cuts weigh."""
+    rows = {}
+    for owners in all_owners(web, posts):
+        rows.setdefault(sum(weight for a, b, weight in web[1] if owners[a] != owners[b]), []).append(owners)
+    return rows
+
+
 def least_weight(web, posts):
     """What the lightest parting weighs, all rows of owners gone through."""
-    return min(
-        sum(weight for a, b, weight in web[1] if owners[a] != owners[b]) for owners in all_owners(web, posts)
-    )
+    return min(rows_by_weight(web, posts))
 
 
 def least_sides(web, sources, sinks):

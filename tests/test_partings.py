@@ -3,7 +3,7 @@
 import unittest
 from itertools import combinations
 
-from partedweb.partings import cut_by, is_parting, owners_of, pruned
+from partedweb.partings import cut_by, is_parting, is_row_of_owners, owners_of, pruned
 from partedweb.webs import pieces, weight_of, without
 from tests.helpers import Dice, all_owners, asked_fairly, great_web, parts, small_webs, together
 
@@ -82,6 +82,16 @@ class CutBy(unittest.TestCase):
     def test_asked_fairly(self):
         asked_fairly(self, cut_by, RING, (0, 0, 2, 2))
         asked_fairly(self, cut_by, (2, ()), (0, 1))
+
+
+class IsRowOfOwners(unittest.TestCase):
+    def test_ordinary(self):
+        for thing, wished in (
+            ((0, 0, 2, 2), True), ((0, 2, 2, 0), True), ([0, 0, 2, 2], False), ((0, 0, 2), False), ((0, 0, 2, 2, 2), False),
+            ((0, 1, 2, 2), False), ((0, 0, 2, 3), False), ((2, 0, 2, 2), False), ((0, 0, 0, 2), False), (None, False),
+            ((False, 0, 2, 2), False), ((0, False, 2, 2), False), ((0, None, 2, 2), False), ((0, [0], 2, 2), False),
+        ):
+            self.assertIs(is_row_of_owners(RING, [0, 2], thing), wished, thing)
 
 
 class OwnersOf(unittest.TestCase):
