@@ -2,6 +2,7 @@
 
 from partedweb.flows import given_at
 from partedweb.kinds import fraction, is_fraction, is_list, is_tuple_of, over_one
+from partedweb.partings import places_beside
 from partedweb.shares import cost_of, is_shares
 
 
@@ -10,7 +11,7 @@ def floor_by(web, posts, pulls):
     below, rows = over_one(pulls)
     given = [given_at(web, row) for row in rows]
     at_posts = sum([row[post] for post, row in zip(posts, given)])
-    elsewhere = sum([min([row[place] for row in given]) for place in range(web[0]) if place not in posts])
+    elsewhere = sum([min([row[place] for row in given]) for place in places_beside(web, posts)])
     return fraction(at_posts + elsewhere, below)
 
 
