@@ -1,7 +1,7 @@
 """All least partings of small webs, and the weight that comes next above theirs."""
 
 from partedweb.errors import TooMany
-from partedweb.partings import cut_by, given, parted_from, places_beside, posts_alone
+from partedweb.partings import cut_by, given, parted_from, places_beside, posts_alone, weight_between
 from partedweb.webs import beside_each, heads_of
 
 MOST_TOLD = 200
@@ -74,7 +74,8 @@ def least_weights(web, posts, many):
 
 def first_row(web, posts):
     """The tuple (weight, owners) of the row in which each post owns itself, and nothing else is given."""
-    return (sum([weight for a, b, weight in web[1] if a in posts and b in posts]), posts_alone(web, posts))
+    owners = posts_alone(web, posts)
+    return (weight_between(web, owners), owners)
 
 
 def rows_from(beside, takers, row, place):

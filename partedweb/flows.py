@@ -36,6 +36,13 @@ def shows_flow(web, sources, sinks, told):
     return even and value == value_of(web, amounts, sources) and value == side_weight(web, side)
 
 
+def are_flows(web, ends, thing):
+    """Whether a thing is a list with a flow for each of the tuples (sources, sinks), in order."""
+    if not is_list(thing) or len(thing) != len(ends):
+        return False
+    return all([shows_flow(web, sources, sinks, paper) for (sources, sinks), paper in zip(ends, thing)])
+
+
 def are_amounts(web, thing):
     """Whether a thing is a list with a number for each tie, at most its weight either way."""
     ties = web[1]

@@ -1,13 +1,20 @@
 """Partings: cuts behind which no two posts hang together, and rows of owners."""
 
-from partedweb.kinds import are_numbers
-from partedweb.webs import heads_of, tie_weights, without
+from partedweb.kinds import are_numbers, is_number
+from partedweb.webs import heads_of, is_cut, tie_weights, weight_of, without
 
 
 def is_parting(web, posts, cut):
     """Whether no two posts hang together without the ties of the cut."""
     heads = heads_of(without(web, cut))
     return len({heads[post] for post in posts}) == len(posts)
+
+
+def is_parting_of_weight(web, posts, cut, weight):
+    """Whether these two things are a parting and what it weighs."""
+    if not is_number(weight) or not is_cut(web, cut):
+        return False
+    return is_parting(web, posts, cut) and weight_of(web, cut) == weight
 
 
 def is_row_of_owners(web, posts, thing):
@@ -53,6 +60,13 @@ def posts_alone(web, posts):
 def given(owners, place, post):
     """The row of owners so far with a place given to a post."""
     return owners[:place] + (post,) + owners[place + 1:]
+
+
+def weight_between(web, owners):
+    """What the ties between places given to unlike posts weigh together."""
+    return sum([
+        weight for a, b, weight in web[1] if None not in (owners[a], owners[b]) and owners[a] != owners[b]
+    ])
 
 
 def parted_from(ties, owners, post):

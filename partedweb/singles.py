@@ -1,14 +1,14 @@
 """Single cuts, each parting one post from all others, and the parting that they make together."""
 
-from partedweb.flows import flow, shows_flow
-from partedweb.kinds import is_list, is_number, is_tuple_of
-from partedweb.partings import is_parting, pruned
-from partedweb.webs import is_cut, weight_of
+from partedweb.flows import are_flows, flow
+from partedweb.kinds import is_tuple_of
+from partedweb.partings import is_parting_of_weight, pruned
+from partedweb.webs import weight_of
 
 
 def singles(web, posts):
     """What flow tells from each post to all others, post by post."""
-    return [flow(web, [post], others_than(post, posts)) for post in posts]
+    return [flow(web, sources, sinks) for sources, sinks in single_ends(posts)]
 
 
 def by_singles(web, posts):
@@ -26,24 +26,15 @@ def shows_by_singles(web, posts, told):
     if not is_tuple_of(told, 3):
         return False
     weight, cut, papers = told
-    if not is_number(weight) or not is_cut(web, cut) or not are_singles(web, posts, papers):
-        return False
-    if not is_parting(web, posts, cut) or weight_of(web, cut) != weight:
+    if not is_parting_of_weight(web, posts, cut, weight) or not are_flows(web, single_ends(posts), papers):
         return False
     many = len(posts)
     return many * weight <= (many - 1) * sum([paper[0] for paper in papers])
 
 
-def are_singles(web, posts, thing):
-    """Whether a thing is a list with a flow from each post to all others, post by post."""
-    if not is_list(thing) or len(thing) != len(posts):
-        return False
-    return all([shows_flow(web, [post], others_than(post, posts), paper) for post, paper in zip(posts, thing)])
-
-
-def others_than(post, posts):
-    """All posts but this one."""
-    return [other for other in posts if other != post]
+def single_ends(posts):
+    """For each post the sources and sinks of its single cut: the post, and all others."""
+    return [([post], [other for other in posts if other != post]) for post in posts]
 
 
 def rim_of(web, sides):

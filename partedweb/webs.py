@@ -88,6 +88,11 @@ def pieces(web):
     return list(rows.values())
 
 
+def ties_along(way):
+    """The pairs of the ties by which a way goes, as they come."""
+    return [(min(one, other), max(one, other)) for one, other in zip(way, way[1:])]
+
+
 def merged(web, names):
     """The web in which all places of one number are one place."""
     weights = {}

@@ -2,7 +2,7 @@
 
 from copy import deepcopy
 from fractions import Fraction
-from itertools import product
+from itertools import combinations, product
 from math import gcd
 
 
@@ -45,6 +45,12 @@ def small_webs(seed, rounds, most=6):
         yield web, dice.posts(many, 2 + dice.below(min(many, 4) - 1))
 
 
+def some_pairs(dice, many, pairs):
+    """So many unlike pairs of places, in any order, fewer where there are no more."""
+    every = [(a, b) for b in range(many) for a in range(b)]
+    return dice.some(every, min(pairs, len(every)))
+
+
 def great_web(seed):
     """A web of as many places and ties as the bounds allow, of great weights."""
     return Dice(seed).web(30, 90, 10 ** 9)
@@ -64,6 +70,11 @@ def together(web, gone):
 def parts(web, posts, gone):
     found = together(web, gone)
     return not any(other in found[post] for post in posts for other in posts if other != post)
+
+
+def all_cuts(web):
+    pairs = [tie[:2] for tie in web[1]]
+    return [list(cut) for many in range(len(pairs) + 1) for cut in combinations(pairs, many)]
 
 
 def all_owners(web, posts):

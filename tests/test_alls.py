@@ -2,7 +2,6 @@
 
 import time
 import unittest
-from itertools import combinations
 
 from partedweb.alls import all_least, always_cut, count_least, ever_cut, second_least
 from partedweb.errors import PartError, TooMany
@@ -10,7 +9,7 @@ from partedweb.narrow import least_narrow
 from partedweb.partings import cut_by
 from partedweb.trees import is_tree, least_on_tree
 from partedweb.webs import pieces, weight_of
-from tests.helpers import Dice, asked_fairly, parts, rows_by_weight, small_webs
+from tests.helpers import Dice, all_cuts, asked_fairly, parts, rows_by_weight, small_webs
 
 RING = (4, ((0, 1, 1), (0, 3, 1), (1, 2, 1), (2, 3, 1)))
 STAR = (4, ((0, 3, 5), (1, 3, 4), (2, 3, 3)))
@@ -39,10 +38,9 @@ def least_by_rows(web, posts):
 
 def least_by_cuts(web, posts):
     """All least partings, all cuts gone through."""
-    pairs = [tie[:2] for tie in web[1]]
-    cuts = [cut for many in range(len(pairs) + 1) for cut in combinations(pairs, many) if parts(web, posts, cut)]
+    cuts = [cut for cut in all_cuts(web) if parts(web, posts, cut)]
     least = min(weight_of(web, cut) for cut in cuts)
-    return sorted(list(cut) for cut in cuts if weight_of(web, cut) == least)
+    return sorted(cut for cut in cuts if weight_of(web, cut) == least)
 
 
 class AllLeast(unittest.TestCase):
