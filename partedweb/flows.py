@@ -88,13 +88,19 @@ def arcs_of(web):
 def greatest_amounts(web, arcs, sources, sinks):
     """The amounts of a flow beside which no value is greater."""
     amounts = [0] * len(web[1])
-    while True:
+    send(web, arcs, amounts, sources, sinks, sum([weight for a, b, weight in web[1]]))
+    return amounts
+
+
+def send(web, arcs, amounts, sources, sinks, most):
+    """Let more flow from sources to sinks: so much, or as much as there is a way for."""
+    while most > 0:
         trails = trails_from(web, arcs, amounts, sources, 1)
         # The nearest sink: by shortest ways alone the number of rounds doesn't grow with the weights.
         ends = [place for place in trails if place in sinks]
         if not ends:
-            return amounts
-        push(web, amounts, way_to(trails, ends[0]))
+            break
+        most -= push(web, amounts, way_to(trails, ends[0]), most)
 
 
 def trails_from(web, arcs, amounts, starts, turn):
@@ -127,8 +133,9 @@ def way_to(trails, end):
     return way
 
 
-def push(web, amounts, way):
-    """Let as much more flow along a way as there is room for."""
-    more = min([web[1][tie][2] - sign * amounts[tie] for tie, sign in way])
+def push(web, amounts, way, most):
+    """Let as much more flow along a way as there is room for, at most so much; tell how much it is."""
+    more = min([most] + [web[1][tie][2] - sign * amounts[tie] for tie, sign in way])
     for tie, sign in way:
         amounts[tie] += sign * more
+    return more

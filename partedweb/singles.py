@@ -14,11 +14,16 @@ def singles(web, posts):
 def by_singles(web, posts):
     """A tuple (weight, cut, papers): a parting by all single cuts but a dearest one, and what singles tells."""
     papers = singles(web, posts)
+    return parting_by(web, posts, papers) + (papers,)
+
+
+def parting_by(web, posts, papers):
+    """A tuple (weight, cut): the parting by all single cuts but the first dearest one."""
     values = [paper[0] for paper in papers]
     dearest = values.index(max(values))
     sides = [side for at, (value, amounts, side) in enumerate(papers) if at != dearest]
     cut = pruned(web, posts, rim_of(web, sides))
-    return (weight_of(web, cut), cut, papers)
+    return (weight_of(web, cut), cut)
 
 
 def shows_by_singles(web, posts, told):

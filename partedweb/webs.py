@@ -48,6 +48,13 @@ def without(web, cut):
     return (many, tuple([tie for tie in ties if tie[:2] not in gone]))
 
 
+def reweighed(web, pair, weight):
+    """The web with a tie of this pair that weighs so much, with none where that is 0."""
+    many, ties = web
+    others = [tie for tie in ties if tie[:2] != pair]
+    return (many, tuple(sorted(others + [pair + (weight,)] if weight > 0 else others)))
+
+
 def beside_each(web):
     """For each place the tuples (far, weight) of its ties: the other end, and what it weighs."""
     many, ties = web

@@ -72,6 +72,11 @@ def parts(web, posts, gone):
     return not any(other in found[post] for post in posts for other in posts if other != post)
 
 
+def parts_pairs_by_words(web, pairs, gone):
+    found = together(web, gone)
+    return not any(b in found[a] for a, b in pairs)
+
+
 def all_cuts(web):
     pairs = [tie[:2] for tie in web[1]]
     return [list(cut) for many in range(len(pairs) + 1) for cut in combinations(pairs, many)]

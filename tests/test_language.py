@@ -28,6 +28,15 @@ LEFT_OUT = (
 DUNDERS = {"__init__", "__eq__", "__repr__", "__str__", "__len__"}
 
 
+WALKED = {"zip", "enumerate", "reversed", "range", "items", "keys", "values"}
+WALKERS = {"list", "tuple", "dict", "sorted", "sum", "any", "all", "enumerate", "zip", "min", "max", "join"}
+
+
+def called(node):
+    """The name of what a call calls."""
+    return node.func.attr if isinstance(node.func, ast.Attribute) else getattr(node.func, "id", None)
+
+
 def files():
     return sorted(PACKAGE.rglob("*.py"))
 
@@ -119,9 +128,45 @@ class Language(unittest.TestCase):
         for where, node in self.each_node(ast.Attribute):
             self.assertIn(node.attr, METHODS | given | own, where)
 
-    def test_sets_are_not_walked(self):
+    def test_own_methods_and_values(self):
+        given = {node.attr for _, node in self.each_node(ast.Attribute) if isinstance(node.ctx, ast.Store)}
+        methods = set()
+        for _, node in self.each_node(ast.ClassDef):
+            methods |= {part.name for part in node.body if isinstance(part, ast.FunctionDef)}
+        self.assertEqual(given & methods, set())
+        for name in (given | methods) - DUNDERS:
+            for kind in (str, int, list, dict, set, bytes, tuple):
+                self.assertFalse(hasattr(kind, name), name)
+
+    def test_walked_at_once(self):
+        for path in files():
+            tree = ast.parse(path.read_text())
+            allowed = set()
+            for node in ast.walk(tree):
+                if isinstance(node, (ast.For, ast.comprehension)):
+                    allowed.add(node.iter)
+                elif isinstance(node, ast.Call) and called(node) in WALKERS and node.args:
+                    allowed.add(node.args[0])
+                elif isinstance(node, ast.Compare) and isinstance(node.ops[0], (ast.In, ast.NotIn)):
+                    allowed.add(node.comparators[0])
+            for node in ast.walk(tree):
+                if isinstance(node, ast.Call) and called(node) in WALKED:
+                    self.assertIn(node, allowed, f"{path.name}:{node.lineno}")
+
+    def test_sets(self):
         for where, node in self.each_node(ast.For, ast.comprehension):
             self.assertNotIsInstance(node.iter, (ast.Set, ast.SetComp), where)
+        for path in files():
+            tree = ast.parse(path.read_text())
+            allowed = set()
+            for node in ast.walk(tree):
+                if isinstance(node, ast.Call) and called(node) in ("len", "sorted") and not node.keywords:
+                    allowed.add(node.args[0])
+                elif isinstance(node, ast.Compare):
+                    allowed.update(node.comparators)
+            for node in ast.walk(tree):
+                if isinstance(node, (ast.Set, ast.SetComp)) or isinstance(node, ast.Call) and called(node) == "set":
+                    self.assertIn(node, allowed, f"{path.name}:{node.lineno}")
 
 
 if __name__ == "__main__":

@@ -9,8 +9,8 @@ from partedweb.paircheck import shows_for_pairs
 from partedweb.pairs import least_for_pairs, pairs_of, parts_pairs
 from partedweb.webs import weight_of
 from tests.helpers import (
-    Dice, all_cuts, asked_fairly, bent, exchanged, great_web, is_cut_by_words, nested, odd_things, small_webs, some_pairs,
-    together,
+    Dice, all_cuts, asked_fairly, bent, exchanged, great_web, is_cut_by_words, nested, odd_things, parts_pairs_by_words,
+    small_webs, some_pairs,
 )
 
 CHAIN = (4, ((0, 1, 5), (1, 2, 2), (2, 3, 7)))
@@ -25,14 +25,9 @@ RING_TREE = ("way", 0, [0, 1, 2], (
 RING_TOLD = (4, [(0, 1), (0, 3)], RING_TREE)
 
 
-def parts_by_words(web, pairs, cut):
-    found = together(web, cut)
-    return not any(b in found[a] for a, b in pairs)
-
-
 def least_by_cuts(web, pairs):
     """The least weight of a cut that parts the pairs, all cuts gone through."""
-    return min(weight_of(web, cut) for cut in all_cuts(web) if parts_by_words(web, pairs, cut))
+    return min(weight_of(web, cut) for cut in all_cuts(web) if parts_pairs_by_words(web, pairs, cut))
 
 
 def along_by_words(web, pair, way):
@@ -79,7 +74,7 @@ def is_so_by_words(web, pairs, told):
     if told.__class__ is not tuple or len(told) != 3 or told[0].__class__ is not int:
         return False
     weight, cut, tree = told
-    if not is_cut_by_words(web, cut) or not parts_by_words(web, pairs, cut) or weight != weight_of(web, cut):
+    if not is_cut_by_words(web, cut) or not parts_pairs_by_words(web, pairs, cut) or weight != weight_of(web, cut):
         return False
     return is_end_by_words(web, pairs, weight, set(), set(), tree)
 
@@ -165,14 +160,14 @@ class PartsPairs(unittest.TestCase):
     def test_by_words(self):
         for web, pairs in small_pairs(402, 60):
             for cut in all_cuts(web)[::3]:
-                self.assertIs(parts_pairs(web, pairs, cut), parts_by_words(web, pairs, cut))
+                self.assertIs(parts_pairs(web, pairs, cut), parts_pairs_by_words(web, pairs, cut))
 
     def test_great(self):
         web = great_web(403)
         pairs = some_pairs(Dice(404), 30, 12)
         every = [tie[:2] for tie in web[1]]
         self.assertIs(parts_pairs(web, pairs, every), True)
-        self.assertIs(parts_pairs(web, pairs, []), parts_by_words(web, pairs, []))
+        self.assertIs(parts_pairs(web, pairs, []), parts_pairs_by_words(web, pairs, []))
 
     def test_asked_fairly(self):
         asked_fairly(self, parts_pairs, CHAIN, [(0, 3)], [(1, 2)])
@@ -235,10 +230,10 @@ class LeastForPairs(unittest.TestCase):
         for web, pairs in stage_pairs(409, 6):
             told = least_for_pairs(web, pairs)
             self.assertIs(shows_for_pairs(web, pairs, told), True)
-            self.assertTrue(parts_by_words(web, pairs, told[1]))
+            self.assertTrue(parts_pairs_by_words(web, pairs, told[1]))
         for many in (6, 13):
-            web = (many, Dice(410).web(many, 12, 1)[1])
-            self.assertEqual(least_for_pairs(web, some_pairs(Dice(411), many, 5))[0], least_by_cuts(web, some_pairs(Dice(411), many, 5)))
+            web, pairs = Dice(410).web(many, 12, 1), some_pairs(Dice(411), many, 5)
+            self.assertEqual(least_for_pairs(web, pairs)[0], least_by_cuts(web, pairs))
         self.assertLess(time.perf_counter() - begun, 60)
 
     def test_asked_fairly(self):
@@ -268,7 +263,7 @@ class ShowsForPairs(unittest.TestCase):
             least = least_for_pairs(web, pairs)
             for cut in all_cuts(web):
                 weight = weight_of(web, cut)
-                wished = weight == least[0] and parts_by_words(web, pairs, cut)
+                wished = weight == least[0] and parts_pairs_by_words(web, pairs, cut)
                 self.shown(wished, web, pairs, (weight, cut, least[2]))
 
     def test_any_tree(self):
